@@ -1,0 +1,1 @@
+"""Shadeguards: which shading tables keep a collector from losing an object."""

@@ -1,0 +1,1 @@
+"""Tests of shadeguards; README.md tells how to run them."""

@@ -1,0 +1,350 @@
+"""The rules of LANGUAGE.md that can be checked line by line and name by name, for every file of the package."""
+
+import ast
+import builtins
+import pathlib
+import re
+import unittest
+
+PACKAGE = pathlib.Path(__file__).parent.parent / "shadeguards"
+
+BUILTINS = set(
+    "len range enumerate zip min max sum abs sorted reversed int str bool bytes list tuple dict set isinstance ord repr"
+    " any all divmod Exception ValueError TypeError KeyError IndexError LookupError ZeroDivisionError ArithmeticError"
+    " OverflowError RuntimeError NotImplementedError AttributeError NotImplemented property classmethod staticmethod"
+    " super iter next map".split()
+)
+LIBRARY = {
+    "heapq": {"heappush", "heappop", "heapify", "heapreplace", "heappushpop"},
+    "math": {"gcd", "lcm", "isqrt", "comb", "perm", "factorial"},
+    "itertools": {"product", "combinations", "permutations", "chain", "accumulate", "pairwise", "islice", "zip_longest"},
+    "collections": {"defaultdict"},
+}
+METHODS = set(
+    "append clear copy count endswith extend find get index insert isalnum isalpha isdigit islower isspace isupper items"
+    " join keys ljust lower lstrip partition pop remove replace reverse rfind rjust rpartition rsplit rstrip setdefault"
+    " split splitlines startswith strip update upper values zfill bit_length add discard".split()
+)
+DUNDERS = set(
+    "__init__ __eq__ __repr__ __str__ __len__ __enter__ __exit__ __call__ __iter__ __lt__ __le__ __gt__ __ge__ __ne__"
+    " __add__ __sub__ __mul__ __and__ __or__ __xor__ __neg__ __bool__ __contains__ __getitem__ __setitem__".split()
+)
+BARRED_NAMES = set(
+    "register mro elements open input law version_info with_traceback add_note attrgetter breakpoint builtins compile"
+    " copyright credits delattr dir eval exec exit gc globals help id importlib license locals methodcaller os quit"
+    " type vars sys _cold _tuplegetter _outside _record _written_out _member_names".split()
+)
+BARRED_ATTRIBUTES = set(
+    "register mro elements open input law version_info with_traceback add_note items keys values pop update append clear"
+    " extend insert remove reverse setdefault sort args encode decode hex fromhex format format_map as_integer_ratio"
+    " bit_count conjugate from_bytes is_integer to_bytes".split()
+)
+BARRED_WORDS = re.compile(
+    r"\b(type|typing|typing_extensions|enum|Enum|IntEnum|StrEnum|Flag|IntFlag|Generic|Protocol|ABC|ABCMeta|namedtuple"
+    r"|NamedTuple|TypedDict|TYPE_CHECKING|abstractmethod)\b|dataclass|overload|contextmanager"
+)
+BARRED_BEGINNINGS = ("_wall", "_pe_", "_dcw_", "_enum_", "_cm_", "_twin_re_", "_lay_", "_law_", "_stub_", "_sre", "_WallAttr")
+ITERATED = {"zip", "enumerate", "reversed", "range"}
+# The first row is barred; what follows the package has no need of so far, and it has rules of its own.
+NODES = (
+    ast.AsyncFunctionDef, ast.AsyncFor, ast.AsyncWith, ast.Await, ast.Global, ast.Import, ast.TryStar,
+    ast.Set, ast.SetComp, ast.GeneratorExp, ast.Lambda, ast.Try,
+)
+
+
+def files():
+    return sorted(PACKAGE.rglob("*"))
+
+
+def trees():
+    return {path: ast.parse(path.read_text(), str(path)) for path in files() if path.suffix == ".py"}
+
+
+def walk_all():
+    for path, tree in trees().items():
+        for node in ast.walk(tree):
+            yield path, node
+
+
+def functions(tree):
+    return [node for node in ast.walk(tree) if isinstance(node, ast.FunctionDef)]
+
+
+def docstrings(tree):
+    return {
+        id(node.body[0].value)
+        for node in ast.walk(tree)
+        if isinstance(node, (ast.Module, ast.ClassDef, ast.FunctionDef)) and ast.get_docstring(node) is not None
+    }
+
+
+def is_generator(function):
+    return any(isinstance(node, (ast.Yield, ast.YieldFrom)) for node in ast.walk(function))
+
+
+def bound_names(tree):
+    """All names that a file gives to something, attributes not included."""
+    for node in ast.walk(tree):
+        if isinstance(node, ast.Name) and isinstance(node.ctx, ast.Store):
+            yield node.id
+        elif isinstance(node, ast.arg):
+            yield node.arg
+        elif isinstance(node, (ast.FunctionDef, ast.ClassDef)):
+            yield node.name
+        elif isinstance(node, ast.ImportFrom):
+            for alias in node.names:
+                yield alias.asname or alias.name
+
+
+def is_plain(node, above):
+    """Whether a value at module level is plain."""
+    if isinstance(node, (ast.Tuple, ast.List)):
+        return all(is_plain(item, above) for item in node.elts)
+    if isinstance(node, ast.Dict):
+        return all(is_plain(item, above) for item in node.keys + node.values)
+    return isinstance(node, ast.Constant) or (isinstance(node, ast.Name) and node.id in above)
+
+
+class Files(unittest.TestCase):
+    def test_names_and_places(self):
+        for path in files():
+            self.assertTrue(path.is_file() and path.suffix == ".py", path)
+            self.assertRegex(path.stem, r"^[a-z0-9_]+$")
+            self.assertNotRegex(path.stem, r"^(law_.*|test|tests|testing|test_.*|site|conftest)$")
+            self.assertNotIn(path.stem, dir(builtins))
+            self.assertNotIn(path.stem, BARRED_NAMES)
+
+    def test_sizes_and_characters(self):
+        for path in files():
+            text = path.read_text(encoding="utf-8")
+            self.assertRegex(text, r"\A[ -~\n]*\Z", path)
+            self.assertLessEqual(len(text.splitlines()), 399, path)
+            for line in text.splitlines():
+                self.assertLessEqual(len(line), 120, f"{path}: {line}")
+
+    def test_functions_are_short(self):
+        for path, tree in trees().items():
+            for node in functions(tree):
+                self.assertLessEqual(node.end_lineno - node.lineno + 1, 40, f"{path}: {node.name}")
+
+    def test_interface_files_exist(self):
+        stems = {path.stem for path in files()}
+        self.assertLessEqual({"errors", "entries", "tables", "heaps", "reaching", "renaming", "__init__"}, stems)
+
+
+class ModuleLevel(unittest.TestCase):
+    def test_statements(self):
+        for path, tree in trees().items():
+            above = set()
+            for place, node in enumerate(tree.body):
+                if isinstance(node, ast.Assign):
+                    self.assertEqual([type(target) for target in node.targets], [ast.Name], path)
+                    self.assertTrue(is_plain(node.value, above), f"{path}:{node.lineno}")
+                elif isinstance(node, ast.Expr):
+                    self.assertEqual(place, 0, f"{path}:{node.lineno}")
+                else:
+                    self.assertIsInstance(node, (ast.ImportFrom, ast.FunctionDef, ast.ClassDef), f"{path}:{node.lineno}")
+                    if isinstance(node, ast.FunctionDef):
+                        above.add(node.name)
+
+    def test_names_are_bound_once(self):
+        for path, tree in trees().items():
+            names = []
+            for node in tree.body:
+                if isinstance(node, ast.Assign):
+                    names.append(node.targets[0].id)
+                elif isinstance(node, ast.ImportFrom):
+                    names.extend(alias.name for alias in node.names)
+                elif isinstance(node, (ast.FunctionDef, ast.ClassDef)):
+                    names.append(node.name)
+            self.assertEqual(len(names), len(set(names)), path)
+
+    def test_imports(self):
+        defined = {
+            path.stem: {
+                node.targets[0].id if isinstance(node, ast.Assign) else node.name
+                for node in tree.body if isinstance(node, (ast.Assign, ast.FunctionDef, ast.ClassDef))
+            }
+            for path, tree in trees().items()
+        }
+        for path, node in walk_all():
+            if isinstance(node, ast.ImportFrom):
+                self.assertEqual((node.level, node.col_offset), (0, 0), path)
+                parts = node.module.split(".")
+                names = {alias.name for alias in node.names}
+                self.assertFalse([alias.asname for alias in node.names if alias.asname], path)
+                if parts[0] == "shadeguards":
+                    self.assertEqual(len(parts), 2, path)
+                    self.assertLessEqual(names, defined[parts[1]], path)
+                else:
+                    self.assertLessEqual(names, LIBRARY.get(node.module, set()), path)
+
+    def test_no_circles(self):
+        uses = {path.stem: set() for path in trees()}
+        for path, node in walk_all():
+            if isinstance(node, ast.ImportFrom) and node.module.startswith("shadeguards."):
+                uses[path.stem].add(node.module.split(".")[1])
+        while uses:
+            free = [stem for stem, used in uses.items() if not used & set(uses)]
+            self.assertTrue(free, f"files that import from each other: {sorted(uses)}")
+            uses = {stem: used for stem, used in uses.items() if stem not in free}
+
+    def test_imports_are_used(self):
+        for path, tree in trees().items():
+            read = {node.id for node in ast.walk(tree) if isinstance(node, ast.Name)}
+            for node in tree.body:
+                if isinstance(node, ast.ImportFrom):
+                    self.assertLessEqual({alias.name for alias in node.names}, read, path)
+
+
+class Names(unittest.TestCase):
+    def test_no_builtin_and_no_barred_name(self):
+        for path, tree in trees().items():
+            methods = {f.name for c in ast.walk(tree) if isinstance(c, ast.ClassDef) for f in c.body
+                       if isinstance(f, ast.FunctionDef)}
+            for name in bound_names(tree):
+                self.assertNotIn(name, BARRED_NAMES, path)
+                self.assertFalse(name.startswith(BARRED_BEGINNINGS), f"{path}: {name}")
+                if name.startswith("__"):
+                    self.assertIn(name, DUNDERS, path)
+                elif name not in methods:
+                    self.assertNotIn(name, dir(builtins), path)
+
+    def test_locals_are_no_imports_and_no_classes(self):
+        for path, tree in trees().items():
+            taken = {alias.name for node in tree.body if isinstance(node, ast.ImportFrom) for alias in node.names}
+            taken |= {node.name for node in tree.body if isinstance(node, ast.ClassDef)}
+            for function in functions(tree):
+                for name in bound_names(ast.Module(function.body, [])):
+                    self.assertNotIn(name, taken, f"{path}: {function.name}")
+                for node in ast.walk(function.args):
+                    if isinstance(node, ast.arg):
+                        self.assertNotIn(node.arg, taken, f"{path}: {function.name}")
+
+    def test_attributes(self):
+        stored, read = {}, {}
+        for path, node in walk_all():
+            if isinstance(node, ast.Attribute):
+                (stored if isinstance(node.ctx, ast.Store) else read)[node.attr] = path
+            elif isinstance(node, ast.ClassDef):
+                for item in node.body:
+                    if isinstance(item, ast.FunctionDef):
+                        stored.setdefault(item.name, path)
+                    elif isinstance(item, ast.Assign):
+                        stored[item.targets[0].id] = path
+        for name, path in stored.items():
+            self.assertNotIn(name, BARRED_ATTRIBUTES, path)
+        for name, path in read.items():
+            self.assertTrue(name in stored or name in METHODS or name in {"__class__", "__name__", "setter", "__init__"},
+                            f"{path}: {name}")
+
+    def test_properties_are_not_stored_elsewhere(self):
+        properties, settable, stored = set(), set(), {}
+        for path, node in walk_all():
+            if isinstance(node, ast.FunctionDef):
+                for decorator in node.decorator_list:
+                    if isinstance(decorator, ast.Name) and decorator.id == "property":
+                        properties.add(node.name)
+                    elif isinstance(decorator, ast.Attribute):
+                        settable.add(node.name)
+            elif isinstance(node, ast.Attribute) and isinstance(node.ctx, ast.Store):
+                stored[node.attr] = path
+        for name in properties - settable:
+            self.assertNotIn(name, stored)
+        self.assertFalse(properties & METHODS)
+
+    def test_generators_have_names_of_their_own(self):
+        names = [node.name for path, node in walk_all() if isinstance(node, ast.FunctionDef)]
+        for path, node in walk_all():
+            if isinstance(node, ast.FunctionDef) and is_generator(node):
+                self.assertEqual(names.count(node.name), 1, f"{path}: {node.name}")
+                self.assertNotIn(node.name, METHODS, path)
+
+    def test_builtins_that_are_used(self):
+        for path, node in walk_all():
+            if isinstance(node, ast.Name) and node.id in dir(builtins):
+                self.assertIn(node.id, BUILTINS, f"{path}:{node.lineno}")
+
+
+class Expressions(unittest.TestCase):
+    def test_statements_and_expressions_that_do_not_occur(self):
+        for path, node in walk_all():
+            self.assertNotIsInstance(node, NODES, f"{path}:{getattr(node, 'lineno', 0)}")
+
+    def test_decorators(self):
+        for path, node in walk_all():
+            if isinstance(node, ast.FunctionDef):
+                for decorator in node.decorator_list:
+                    name = decorator.attr if isinstance(decorator, ast.Attribute) else decorator.id
+                    self.assertIn(name, {"property", "classmethod", "staticmethod", "setter"}, path)
+            elif isinstance(node, ast.ClassDef):
+                self.assertEqual(node.decorator_list, [], path)
+
+    def test_constants(self):
+        for path, tree in trees().items():
+            prose = docstrings(tree)
+            for node in ast.walk(tree):
+                if isinstance(node, ast.Constant):
+                    self.assertIsInstance(node.value, (int, str, type(None)), f"{path}:{node.lineno}")
+                    if isinstance(node.value, str):
+                        self.assertNotIn(chr(37), node.value, f"{path}:{node.lineno}")
+                        self.assertFalse(node.value.endswith(("._", ".__")), f"{path}:{node.lineno}")
+                        if id(node) not in prose:
+                            self.assertNotRegex(node.value, BARRED_WORDS, f"{path}:{node.lineno}")
+
+    def test_barred_words(self):
+        for path, tree in trees().items():
+            for node in ast.walk(tree):
+                for name in [getattr(node, field, None) for field in ("id", "attr", "arg", "name")]:
+                    if isinstance(name, str):
+                        self.assertNotRegex(name, BARRED_WORDS, f"{path}: {name}")
+            self.assertNotIn("(type)", path.read_text())
+
+    def test_division_and_is(self):
+        for path, node in walk_all():
+            self.assertNotIsInstance(node, (ast.Div, ast.MatMult), path)
+            if isinstance(node, ast.Compare):
+                for operator, side in zip(node.ops, node.comparators):
+                    if isinstance(operator, (ast.Is, ast.IsNot)):
+                        self.assertIsInstance(side, ast.Constant, f"{path}:{node.lineno}")
+
+    def test_what_is_iterated_at_once(self):
+        for path, tree in trees().items():
+            at_once = set()
+            for node in ast.walk(tree):
+                if isinstance(node, (ast.For, ast.comprehension)):
+                    at_once.add(id(node.iter))
+                elif isinstance(node, ast.Call) and isinstance(node.func, ast.Name) and node.args:
+                    if node.func.id in {"list", "tuple", "dict", "sorted", "sum", "any", "all", "enumerate", "zip"}:
+                        at_once.add(id(node.args[0]))
+            for node in ast.walk(tree):
+                if isinstance(node, ast.Call) and isinstance(node.func, ast.Name) and node.func.id in ITERATED:
+                    self.assertIn(id(node), at_once, f"{path}:{node.lineno}")
+
+    def test_sets_stand_in_len_or_sorted_or_are_assigned_once(self):
+        for path, tree in trees().items():
+            right = set()
+            for node in ast.walk(tree):
+                if isinstance(node, ast.Call) and isinstance(node.func, ast.Name) and node.func.id in ("len", "sorted"):
+                    right.add(id(node.args[0]))
+                elif isinstance(node, ast.Assign) and isinstance(node.targets[0], ast.Name):
+                    right.add(id(node.value))
+            for node in ast.walk(tree):
+                if isinstance(node, ast.Call) and isinstance(node.func, ast.Name) and node.func.id == "set":
+                    self.assertIn(id(node), right, f"{path}:{node.lineno}")
+
+    def test_methods_that_are_called(self):
+        own = {node.name for path, node in walk_all() if isinstance(node, ast.FunctionDef)}
+        for path, node in walk_all():
+            if isinstance(node, ast.Call) and isinstance(node.func, ast.Attribute):
+                self.assertIn(node.func.attr, METHODS | own, f"{path}:{node.lineno}")
+                if node.func.attr in METHODS:
+                    self.assertEqual(node.keywords, [], f"{path}:{node.lineno}")
+
+    def test_no_annotations(self):
+        for path, node in walk_all():
+            self.assertNotIsInstance(node, ast.AnnAssign, path)
+            if isinstance(node, ast.arg):
+                self.assertIsNone(node.annotation, path)
+            elif isinstance(node, ast.FunctionDef):
+                self.assertIsNone(node.returns, path)

@@ -1,0 +1,72 @@
+"""Values for tests: any values, tables, heaps, and a check that arguments stay as they are."""
+
+import copy
+import itertools
+import random
+
+from shadeguards.entries import ENTRIES
+from shadeguards.tables import Table
+
+
+def deep(make, depth):
+    """A value that is nested this deep."""
+    value = make([])
+    for _ in range(depth - 1):
+        value = make([value])
+    return value
+
+
+ANY = [
+    None, True, False, 0, 1, -1, 2, 7, 40, 10 ** 59, -(10 ** 59),
+    "", " ", "-", "0", "1", "white", "grey", "once", "load", "old-grey", "x" * 4000, "a\nb", "\n",
+    (), (0,), (True,), (None,), ("load",), ("load", "grey", "x"), (("load", "grey"),), ((), ()),
+    [], [0], ["old", "grey"], [("old", "grey")], ["start"], [None],
+    {}, {"load": "grey"}, {0: 1}, {"a": [1, (2, {"b": None})]},
+    deep(tuple, 10), deep(list, 10), (deep(list, 9),), tuple(range(4000)), [[]] * 4000,
+]
+
+
+def without(values, *gone):
+    """The values that are none of these, kinds compared as well as values."""
+    return [value for value in values if not any(type(value) is type(one) and value == one for one in gone)]
+
+
+def frozen(value):
+    """A copy that a later change of the value does not reach."""
+    return copy.deepcopy(value)
+
+
+def all_tables():
+    """All 24,576 tables."""
+    for size in range(13):
+        for entries in itertools.combinations(ENTRIES, size):
+            for fresh in Table.FRESH:
+                for roots in Table.ROOTS:
+                    yield Table(*entries, fresh=fresh, roots=roots)
+
+
+def some_table(chance, **words):
+    """A table of chance; `words` may tell its fresh and its roots."""
+    entries = [entry for entry in ENTRIES if chance.random() < 0.5]
+    fresh = words.get("fresh", chance.choice(Table.FRESH))
+    roots = words.get("roots", chance.choice(Table.ROOTS))
+    return Table(*entries, fresh=fresh, roots=roots)
+
+
+def some_heap(chance, most=6, width=None):
+    """A heap of chance."""
+    many = chance.randint(0, most)
+    width = width or chance.randint(1, 4)
+    held = [None, *range(many)]
+    return (width, tuple(tuple(chance.choice(held) for _ in range(width)) for _ in range(many)))
+
+
+def some_registers(chance, heap, many=None):
+    """Registers of chance for this heap."""
+    held = [None, *range(len(heap[1]))]
+    return tuple(chance.choice(held) for _ in range(many or chance.randint(1, 6)))
+
+
+def chances(many, seed=0):
+    """Generators of chance that are the same in every run."""
+    return [random.Random(1000 * seed + index) for index in range(many)]
