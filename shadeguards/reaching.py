@@ -19,9 +19,14 @@ def reach_from(heap, *objects):
     return tuple(sorted(reached))
 
 
+def held_objects(registers):
+    """Return the objects that registers hold, one for each register that holds one."""
+    return [x for x in registers if x is not None]
+
+
 def reachable(heap, registers):
     """Return the objects that are reachable from the registers."""
-    held = [x for x in registers if x is not None]
+    held = held_objects(registers)
     return reach_from(heap, *held)
 
 

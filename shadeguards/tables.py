@@ -106,8 +106,7 @@ class Table:
         return bool(self._entries)
 
     def __str__(self):
-        words = entries_text(self._entries)
-        return f"{self._fresh} {self._roots}: {words}"
+        return f"{self._fresh} {self._roots}: {entries_text(self._entries)}"
 
     def __repr__(self):
         return f"Table({len(self._entries)} entries, fresh {self._fresh}, roots {self._roots})"

@@ -50,6 +50,33 @@ NODES = (
     ast.AsyncFunctionDef, ast.AsyncFor, ast.AsyncWith, ast.Await, ast.Global, ast.Import, ast.TryStar,
     ast.Set, ast.SetComp, ast.GeneratorExp, ast.Lambda, ast.Try,
 )
+INTERFACE = {
+    "errors": "ShadeError InvalidEntry InvalidFresh InvalidRoots InvalidHeap InvalidRegisters InvalidThreads InvalidState"
+              " InvalidStep InvalidCertificate InvalidChange InvalidGoal ParseError UnknownCommand Started Mismatch NoObject"
+              " NoInvariant NothingToUndo TooMany",
+    "entries": "COLORS KINDS ENTRIES is_color is_entry sorted_entries",
+    "tables": "Table",
+    "heaps": "is_heap is_registers make_heap",
+    "reaching": "reachable unreachable reach_from path_to",
+    "renaming": "is_order renamed_heap renamed_registers renamed_step inverse",
+    "steps": "is_step step_rank",
+    "states": "is_state",
+    "cycles": "Cycle",
+    "fieldcycles": "FieldCycle",
+    "countingcycles": "CountingCycle CountingFieldCycle cycle_for",
+    "whitepaths": "white_path",
+    "invariants": "INVARIANTS holds offender first_broken",
+}
+MEMBERS = {
+    ("tables", "Table"): "FRESH ROOTS __init__ empty full read entries fresh roots changed within __call__ __or__ __and__"
+                         " __sub__ __eq__ __contains__ __len__ __bool__ __str__ __repr__",
+    ("cycles", "Cycle"): "SCANNING MOST_OBJECTS MOST_REGISTERS __init__ heap registers colors visited state phase steps scans"
+                         " reachable old begun lost freed table change_table step why moves undo twin trial tried at"
+                         " __contains__ __len__ __eq__ __repr__",
+    ("fieldcycles", "FieldCycle"): "SCANNING __init__",
+    ("countingcycles", "CountingCycle"): "__init__ fired",
+    ("countingcycles", "CountingFieldCycle"): "__init__ fired",
+}
 
 
 def files():
@@ -127,9 +154,22 @@ class Files(unittest.TestCase):
             for node in functions(tree):
                 self.assertLessEqual(node.end_lineno - node.lineno + 1, 40, f"{path}: {node.name}")
 
-    def test_interface_files_exist(self):
-        stems = {path.stem for path in files()}
-        self.assertLessEqual({"errors", "entries", "tables", "heaps", "reaching", "renaming", "__init__"}, stems)
+
+class Interface(unittest.TestCase):
+    def test_names_are_defined_in_their_files(self):
+        for stem, names in INTERFACE.items():
+            tree = ast.parse((PACKAGE / f"{stem}.py").read_text())
+            defined = {node.targets[0].id if isinstance(node, ast.Assign) else node.name for node in tree.body
+                       if isinstance(node, (ast.Assign, ast.FunctionDef, ast.ClassDef))}
+            self.assertLessEqual(set(names.split()), defined, stem)
+
+    def test_methods_stand_in_their_classes(self):
+        for (stem, name), members in MEMBERS.items():
+            tree = ast.parse((PACKAGE / f"{stem}.py").read_text())
+            body = next(node.body for node in tree.body if isinstance(node, ast.ClassDef) and node.name == name)
+            defined = {node.targets[0].id if isinstance(node, ast.Assign) else node.name for node in body
+                       if isinstance(node, (ast.Assign, ast.FunctionDef))}
+            self.assertLessEqual(set(members.split()), defined, name)
 
 
 class ModuleLevel(unittest.TestCase):

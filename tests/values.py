@@ -4,8 +4,13 @@ import copy
 import itertools
 import random
 
-from shadeguards.entries import ENTRIES
+from shadeguards.cycles import Cycle
+from shadeguards.entries import COLORS, ENTRIES
+from shadeguards.fieldcycles import FieldCycle
 from shadeguards.tables import Table
+from tests.model import all_steps
+
+CLASSES = {"whole": Cycle, "fields": FieldCycle}
 
 
 def deep(make, depth):
@@ -65,6 +70,39 @@ def some_registers(chance, heap, many=None):
     """Registers of chance for this heap."""
     held = [None, *range(len(heap[1]))]
     return tuple(chance.choice(held) for _ in range(many or chance.randint(1, 6)))
+
+
+def some_state(chance, scanning, most=5, width=None):
+    """A state of chance."""
+    heap = some_heap(chance, most, width)
+    colors = tuple(chance.choice(COLORS) for _ in heap[1])
+    visited = []
+    for color in colors:
+        if color == "black":
+            visited.append(tuple(range(heap[0])))
+        elif color == "grey" and scanning == "fields":
+            visited.append(tuple(sorted(chance.sample(range(heap[0]), chance.randrange(heap[0])))))
+        else:
+            visited.append(())
+    return heap, some_registers(chance, heap, chance.randint(1, 3)), colors, tuple(visited)
+
+
+def wander(chance, cycle, many):
+    """Let the cycle perform up to so many steps of chance; tell each of them and what `step` returned for it."""
+    for _ in range(many):
+        possible = list(cycle.moves())
+        if not possible:
+            return
+        kind = chance.choice(sorted({step[0] for step in possible} - {"end"}) or ["end"])
+        if chance.random() < 0.1 and ("end",) in possible:
+            kind = "end"
+        step = chance.choice([step for step in possible if step[0] == kind])
+        yield step, cycle.step(step)
+
+
+def nearby(cycle):
+    """All steps that name what exists, or one more."""
+    return all_steps(cycle.SCANNING, len(cycle.registers) + 1, cycle.heap[0] + 1, len(cycle) + 1)
 
 
 def chances(many, seed=0):
