@@ -140,3 +140,103 @@ def all_steps(scanning, slots, width, many):
         yield from (("scan", x, f) for x in xs for f in fs)
     yield ("look",)
     yield ("end",)
+
+
+def start_model(table, heap, registers, scanning):
+    """The machine in the phase "ready"."""
+    many = len(heap[1])
+    return Model((heap, registers, ("white",) * many, ((),) * many), "ready", table, scanning)
+
+
+def played(table, run, scanning):
+    """The machine after a run, each step of which must be possible."""
+    heap, registers, steps = run
+    model = start_model(table, heap, registers, scanning)
+    for index, step in enumerate(steps):
+        if model.why(step) is not None:
+            raise AssertionError(f"step {index} of {run}: {model.why(step)}")
+        model.do(step)
+    return model
+
+
+def reached(objects, registers):
+    """The set of the reachable objects, by taking more and more of them."""
+    found = {x for x in registers if x is not None}
+    for _ in objects:
+        found |= {held for x in found for held in objects[x] if held is not None}
+    return found
+
+
+def lost_objects(model):
+    """The set of the objects that are reachable and white."""
+    return {x for x in reached(model.fields, model.registers) if model.colors[x] == "white"}
+
+
+def has(table, goal, registers, scanning):
+    """Whether the table has the property, in the words of point 12, but entry by entry."""
+    entries = set(table.entries)
+    lit, again = table.fresh != "white", table.roots == "again"
+    if goal == "snapshot":
+        return ("old", "grey") in entries and bool(entries & {("load", "grey"), ("old", "white")})
+    if goal == "bounded":
+        if ("source", "black") in entries or scanning == "fields" and ("source", "grey") in entries:
+            return False
+        shading = {("load", "white"), ("old", "white"), ("new", "white"), ("source", "white")}
+        alone = registers == 1 and table.fresh == "white" and not again and not entries & shading
+        return table.fresh == "black" or alone
+    if registers == 1:
+        return lit or again
+    guarded = bool(entries & {("new", "black"), ("source", "black")})
+    if scanning == "fields":
+        guarded = guarded and bool(entries & {("new", "grey"), ("source", "grey")})
+    covered = ("load", "grey") in entries
+    covered = covered or ("old", "grey") in entries and bool(entries & {("load", "white"), ("old", "white")})
+    return guarded and again or covered and lit
+
+
+def model_at(state, table, scanning):
+    """The machine in a state in the phase "marking"."""
+    return Model(state, "marking", table, scanning)
+
+
+def is_bad(state, table, goal, scanning, old):
+    """Whether a state is bad, as in point 48."""
+    model = model_at(state, table, scanning)
+    if model.why(("end",)) is not None:
+        return False
+    return bool(lost_objects(model)) if goal == "safe" else any(model.colors[x] == "white" for x in old)
+
+
+def further(state, table, scanning, most):
+    """The steps that lead to states, in order, with these; `most` tells with how many objects none is made."""
+    slots, width, many = len(state[1]), state[0][0], len(state[2])
+    for step in all_steps(scanning, slots, width, many):
+        if step[0] in ("start", "end") or step[0] == "new" and many >= most:
+            continue
+        model = model_at(state, table, scanning)
+        if model.why(step) is None:
+            model.do(step)
+            yield step, model.state()
+
+
+def met_states(table, heap, registers, scanning, extra, cap):
+    """The states of point 48 in their order, whether they are bad or not, each with its steps: up to so many of them."""
+    model = start_model(table, heap, registers, scanning)
+    model.do(("start",))
+    return met_behind({model.state(): (("start",),)}, table, scanning, len(heap[1]) + extra, cap)
+
+
+def met_behind(paths, table, scanning, most, cap):
+    """These states and those to which their steps lead, in order, each with its steps: up to so many of them."""
+    at = 0
+    order = list(paths)
+    while at < len(order):
+        state = order[at]
+        at += 1
+        for step, after in further(state, table, scanning, most):
+            if after not in paths:
+                if len(paths) == cap:
+                    return paths
+                paths[after] = paths[state] + (step,)
+                order.append(after)
+    return paths

@@ -2,6 +2,8 @@
 
 import ast
 import builtins
+import importlib
+import inspect
 import pathlib
 import re
 import unittest
@@ -48,7 +50,7 @@ ITERATED = {"zip", "enumerate", "reversed", "range"}
 # The first row is barred; what follows the package has no need of so far, and it has rules of its own.
 NODES = (
     ast.AsyncFunctionDef, ast.AsyncFor, ast.AsyncWith, ast.Await, ast.Global, ast.Import, ast.TryStar,
-    ast.Set, ast.SetComp, ast.GeneratorExp, ast.Lambda, ast.Try,
+    ast.Set, ast.SetComp, ast.GeneratorExp, ast.Lambda,
 )
 INTERFACE = {
     "errors": "ShadeError InvalidEntry InvalidFresh InvalidRoots InvalidHeap InvalidRegisters InvalidThreads InvalidState"
@@ -66,6 +68,35 @@ INTERFACE = {
     "countingcycles": "CountingCycle CountingFieldCycle cycle_for",
     "whitepaths": "white_path",
     "invariants": "INVARIANTS holds offender first_broken",
+    "needs": "needs missing_needs is_kept",
+    "breaking": "breaking check_breaking",
+    "ways": "GOALS ways fits has_property",
+    "losing": "least_length losing_run",
+    "runchecks": "play check_name check_run",
+    "searching": "search",
+    "closedchecks": "check_closed",
+    "overruns": "scan_bound overrun longer_run",
+}
+# The parameters as the document prints them.
+PARAMETERS = {
+    "needs.needs": "(name, *, registers=2, scanning='whole')",
+    "needs.missing_needs": "(table, name, *, registers=2, scanning='whole')",
+    "needs.is_kept": "(table, name, *, registers=2, scanning='whole')",
+    "breaking.breaking": "(table, name, *, registers=2, scanning='whole')",
+    "breaking.check_breaking": "(table, name, value, *, scanning='whole')",
+    "ways.ways": "(goal, *, registers=2, scanning='whole')",
+    "ways.fits": "(table, way)",
+    "ways.has_property": "(table, goal='safe', *, registers=2, scanning='whole')",
+    "losing.least_length": "(table, *, registers=2)",
+    "losing.losing_run": "(table, *, registers=2, scanning='whole')",
+    "runchecks.play": "(table, run, *, scanning='whole')",
+    "runchecks.check_name": "(table, name, goal='safe', *, registers=2, scanning='whole')",
+    "runchecks.check_run": "(table, run, goal='safe', *, registers=2, scanning='whole')",
+    "searching.search": "(table, heap, registers, *, goal='safe', scanning='whole', extra=0, limit=500)",
+    "closedchecks.check_closed": "(table, heap, registers, states, *, goal='safe', scanning='whole', extra=0)",
+    "overruns.scan_bound": "(heap, *, scanning='whole')",
+    "overruns.overrun": "(table, *, registers=2, scanning='whole')",
+    "overruns.longer_run": "(table, many, *, registers=2, scanning='whole')",
 }
 MEMBERS = {
     ("tables", "Table"): "FRESH ROOTS __init__ empty full read entries fresh roots changed within __call__ __or__ __and__"
@@ -162,6 +193,12 @@ class Interface(unittest.TestCase):
             defined = {node.targets[0].id if isinstance(node, ast.Assign) else node.name for node in tree.body
                        if isinstance(node, (ast.Assign, ast.FunctionDef, ast.ClassDef))}
             self.assertLessEqual(set(names.split()), defined, stem)
+
+    def test_parameters(self):
+        for name, parameters in PARAMETERS.items():
+            stem, function = name.split(".")
+            module = importlib.import_module(f"shadeguards.{stem}")
+            self.assertEqual(str(inspect.signature(getattr(module, function))), parameters, name)
 
     def test_methods_stand_in_their_classes(self):
         for (stem, name), members in MEMBERS.items():
@@ -319,6 +356,32 @@ class Expressions(unittest.TestCase):
                     self.assertIn(name, {"property", "classmethod", "staticmethod", "setter"}, path)
             elif isinstance(node, ast.ClassDef):
                 self.assertEqual(node.decorator_list, [], path)
+
+    def test_handlers_name_own_errors(self):
+        for path, node in walk_all():
+            if isinstance(node, ast.Try):
+                self.assertEqual(node.finalbody, [], f"{path}:{node.lineno}")
+                for handler in node.handlers:
+                    self.assertIsInstance(handler.type, ast.Name, f"{path}:{node.lineno}")
+                    self.assertIn(handler.type.id, INTERFACE["errors"].split(), f"{path}:{node.lineno}")
+
+    def test_what_stands_behind_a_star(self):
+        plain = (ast.Name, ast.Constant, ast.Attribute, ast.List, ast.Tuple)
+        for path, node in walk_all():
+            if isinstance(node, ast.Call):
+                stars = [at for at, one in enumerate(node.args) if isinstance(one, ast.Starred)]
+                if stars:
+                    behind = [node.args[at].value for at in stars] + node.args[stars[-1] + 1:]
+                    for one in behind + [keyword.value for keyword in node.keywords]:
+                        self.assertIsInstance(one, plain, f"{path}:{node.lineno}")
+
+    def test_no_generator_of_the_package_is_a_value(self):
+        generators = {node.name for _, node in walk_all() if isinstance(node, ast.FunctionDef) and is_generator(node)}
+        at_once = {id(node.iter.func) for _, node in walk_all()
+                   if isinstance(node, (ast.For, ast.comprehension)) and isinstance(node.iter, ast.Call)}
+        for path, node in walk_all():
+            if isinstance(node, ast.Name) and node.id in generators:
+                self.assertIn(id(node), at_once, f"{path}:{node.lineno}")
 
     def test_constants(self):
         for path, tree in trees().items():

@@ -6,6 +6,7 @@ import random
 
 from shadeguards.cycles import Cycle
 from shadeguards.entries import COLORS, ENTRIES
+from shadeguards.errors import InvalidCertificate, InvalidGoal
 from shadeguards.fieldcycles import FieldCycle
 from shadeguards.tables import Table
 from tests.model import all_steps
@@ -108,3 +109,50 @@ def nearby(cycle):
 def chances(many, seed=0):
     """Generators of chance that are the same in every run."""
     return [random.Random(1000 * seed + index) for index in range(many)]
+
+
+SETTINGS = [(1, "whole"), (1, "fields"), (2, "whole"), (2, "fields")]
+
+
+def subsets(things):
+    """All subsets, as tuples."""
+    for size in range(len(things) + 1):
+        yield from itertools.combinations(things, size)
+
+
+def unlike_tables(*named):
+    """Tables of unlike kinds: with each choice of these entries, each fresh and roots, and all or none of the others."""
+    others = [entry for entry in ENTRIES if entry not in named]
+    for chosen in subsets(named):
+        for rest in ([], others):
+            for fresh in Table.FRESH:
+                for roots in Table.ROOTS:
+                    yield Table(*chosen, *rest, fresh=fresh, roots=roots)
+
+
+def table_with(entries, fresh="black", roots="once"):
+    """A table of a list of entries."""
+    return Table(*entries, fresh=fresh, roots=roots)
+
+
+def reason_of(case, deed, *args, **words):
+    """The reason for which the deed raises InvalidCertificate; the arguments must stay as they are."""
+    before = frozen((args, words))
+    with case.assertRaises(InvalidCertificate) as caught:
+        deed(*args, **words)
+    case.assertEqual((args, words), before)
+    return caught.exception.reason
+
+
+GOALS = ("safe", "snapshot", "bounded")
+NO_GOALS = ["Safe", "safe ", "", "strong", "single", ("safe",), ["safe"], {"safe": True}, None, True, 0, "safe\n"] + ANY
+
+
+def check_goals_that_are_none(case, deed, *more):
+    """The deed, called with a goal, must raise InvalidGoal for each value that is none."""
+    for goal in [*more, *NO_GOALS]:
+        before = frozen(goal)
+        with case.assertRaises(InvalidGoal) as caught:
+            deed(goal)
+        case.assertIs(caught.exception.value, goal)
+        case.assertEqual(goal, before)
