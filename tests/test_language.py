@@ -75,7 +75,13 @@ INTERFACE = {
     "runchecks": "play check_name check_run",
     "searching": "search",
     "closedchecks": "check_closed",
+    "freeing": "least_freeing freeing_run",
     "overruns": "scan_bound overrun longer_run",
+    "judging": "judge check_verdict",
+    "changes": "is_change change_table",
+    "repairs": "repairs cheapest",
+    "counts": "count_tables minimal_tables",
+    "scheduling": "schedule",
 }
 # The parameters as the document prints them.
 PARAMETERS = {
@@ -94,9 +100,21 @@ PARAMETERS = {
     "runchecks.check_run": "(table, run, goal='safe', *, registers=2, scanning='whole')",
     "searching.search": "(table, heap, registers, *, goal='safe', scanning='whole', extra=0, limit=500)",
     "closedchecks.check_closed": "(table, heap, registers, states, *, goal='safe', scanning='whole', extra=0)",
+    "freeing.least_freeing": "(table)",
+    "freeing.freeing_run": "(table, *, registers=2, scanning='whole')",
     "overruns.scan_bound": "(heap, *, scanning='whole')",
     "overruns.overrun": "(table, *, registers=2, scanning='whole')",
     "overruns.longer_run": "(table, many, *, registers=2, scanning='whole')",
+    "judging.judge": "(table, goal='safe', *, registers=2, scanning='whole')",
+    "judging.check_verdict": "(table, verdict, goal='safe', *, registers=2, scanning='whole')",
+    "changes.is_change": "(thing)",
+    "changes.change_table": "(table, *changes)",
+    "repairs.repairs": "(table, *goals, registers=2, scanning='whole')",
+    "repairs.cheapest": "(table, *goals, prices=(), registers=2, scanning='whole')",
+    "counts.count_tables":
+        "(goal, *, include=(), exclude=(), fresh=None, roots=None, registers=2, scanning='whole')",
+    "counts.minimal_tables": "(goal, *, fresh=None, roots=None, registers=2, scanning='whole')",
+    "scheduling.schedule": "(cycle, *program, pace=1)",
 }
 MEMBERS = {
     ("tables", "Table"): "FRESH ROOTS __init__ empty full read entries fresh roots changed within __call__ __or__ __and__"
