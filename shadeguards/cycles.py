@@ -4,8 +4,9 @@ from shadeguards.checks import is_number
 from shadeguards.effects import greyed_objects, phase_after, state_after
 from shadeguards.errors import InvalidHeap, InvalidRegisters, InvalidState, InvalidStep, NothingToUndo, Started
 from shadeguards.heaps import REGISTERS_AT_MOST, is_heap, may_hold
+from shadeguards.possible import possible_steps
 from shadeguards.reaching import held_objects, reach_from
-from shadeguards.refusals import possible_steps, refusal
+from shadeguards.refusals import refusal
 from shadeguards.states import is_state
 from shadeguards.tables import Table
 from shadeguards.trials import Trial
@@ -158,9 +159,9 @@ class Cycle:
         return refusal(step, self._state, self._phase, self._table, self.SCANNING)
 
     def moves(self):
-        """Yield all steps that are possible now, in order."""
-        for step in possible_steps(self._state, self._phase, self._table, self.SCANNING):
-            yield step
+        """Return all steps that are possible now, in order."""
+        # Cycles with threads have a method of this name, too. So neither of them can be a generator.
+        return tuple(possible_steps(self._state, self._phase, self._table, self.SCANNING))
 
     def undo(self, count=1):
         """Take back so many steps, any value; return them, the latest one first."""

@@ -2,8 +2,9 @@
 
 from shadeguards.effects import state_after
 from shadeguards.errors import InvalidGoal
+from shadeguards.possible import possible_steps
 from shadeguards.reaching import reachable
-from shadeguards.refusals import end_refusal, possible_steps
+from shadeguards.refusals import end_refusal
 
 SEARCH_GOALS = ("safe", "snapshot")
 

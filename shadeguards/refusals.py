@@ -1,4 +1,4 @@
-"""Why a step is refused, and which steps are possible."""
+"""Why a step is refused."""
 
 from shadeguards.heaps import OBJECTS_AT_MOST
 from shadeguards.steps import is_step, named_field, named_registers, needed_registers
@@ -63,31 +63,3 @@ def refusal(step, state, phase, table, scanning):
     if kind == "end":
         return end_refusal(state, table)
     return program_refusal(step, state)
-
-
-def scans_of(heap, scanning):
-    """Return the scans that name an object of the heap, and one of its fields where they name one, in order."""
-    width, objects = heap
-    if scanning == "fields":
-        return [("scan", x, f) for x in range(len(objects)) for f in range(width)]
-    return [("scan", x) for x in range(len(objects))]
-
-
-def named_steps(state, scanning):
-    """Return all steps that name only what exists, possible or not, in order."""
-    heap, registers, _, _ = state
-    slots = list(range(len(registers)))
-    fields = list(range(heap[0]))
-    loads = [("load", r, s, f) for r in slots for s in slots for f in fields]
-    stores = [("store", s, f, t) for s in slots for f in fields for t in [None] + slots]
-    shifts = [("move", r, t) for r in slots for t in slots]
-    clears = [("clear", r) for r in slots]
-    makes = [("new", r) for r in slots]
-    scans = scans_of(heap, scanning)
-    return [("start",)] + loads + stores + shifts + clears + makes + scans + [("look",), ("end",)]
-
-
-def possible_steps(state, phase, table, scanning):
-    """Return all steps that are possible, in order."""
-    steps = named_steps(state, scanning)
-    return [step for step in steps if refusal(step, state, phase, table, scanning) is None]

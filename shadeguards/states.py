@@ -25,6 +25,16 @@ def are_visited(thing, color, width, scanning):
     return len(thing) == 0
 
 
+def are_marks(heap, colors, visited, scanning):
+    """Return True if these, any values, are colors of the objects of the heap and visited fields that go with them."""
+    width, objects = heap
+    if not are_colors(colors, len(objects)):
+        return False
+    if not isinstance(visited, tuple) or len(visited) != len(objects):
+        return False
+    return all([are_visited(fields, color, width, scanning) for fields, color in zip(visited, colors)])
+
+
 def is_state(thing, *, scanning="whole"):
     """Return True if the thing, any value, is a state of this scanning."""
     if not isinstance(thing, tuple) or len(thing) != 4:
@@ -32,9 +42,4 @@ def is_state(thing, *, scanning="whole"):
     heap, registers, colors, visited = thing
     if not is_heap(heap) or not is_registers(heap, registers):
         return False
-    width, objects = heap
-    if not are_colors(colors, len(objects)):
-        return False
-    if not isinstance(visited, tuple) or len(visited) != len(objects):
-        return False
-    return all([are_visited(fields, color, width, scanning) for fields, color in zip(visited, colors)])
+    return are_marks(heap, colors, visited, scanning)

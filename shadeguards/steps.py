@@ -13,19 +13,28 @@ def many_numbers(kind, scanning):
     return NUMBERS[kind]
 
 
+def kind_of(thing):
+    """Return the kind of steps with which the thing, any value, begins, or None if it begins with none."""
+    if not isinstance(thing, tuple) or len(thing) == 0:
+        return None
+    kind = thing[0]
+    return kind if isinstance(kind, str) and kind in STEP_KINDS else None
+
+
+def has_numbers(thing, many):
+    """Return True if so many numbers stand behind the kind with which the thing begins; a store may end in None."""
+    numbers = thing[1:]
+    if len(numbers) != many:
+        return False
+    if thing[0] == "store" and numbers[-1] is None:
+        numbers = numbers[:-1]
+    return all([is_number(number) and number >= 0 for number in numbers])
+
+
 def is_step(thing, *, scanning="whole"):
     """Return True if the thing, any value, is a step of this scanning by its form."""
-    if not isinstance(thing, tuple) or len(thing) == 0:
-        return False
-    kind = thing[0]
-    if not isinstance(kind, str) or kind not in STEP_KINDS:
-        return False
-    numbers = thing[1:]
-    if len(numbers) != many_numbers(kind, scanning):
-        return False
-    if kind == "store" and numbers[2] is None:
-        numbers = numbers[:2]
-    return all([is_number(number) and number >= 0 for number in numbers])
+    kind = kind_of(thing)
+    return kind is not None and has_numbers(thing, many_numbers(kind, scanning))
 
 
 def step_rank(step):

@@ -2,6 +2,7 @@
 
 from shadeguards.entries import ENTRIES, is_color
 from shadeguards.errors import ParseError
+from shadeguards.lines import check_one_line, lines_of
 
 
 def entry_text(entry):
@@ -25,15 +26,15 @@ def entry_place(word):
     return -1
 
 
-def read_entries(words):
-    """Return the entries that the words of a table from the third one on write."""
-    if words[2:] == ["-"]:
+def read_entries(words, start):
+    """Return the entries that the words of the first line write, from this one on."""
+    if words[start:] == ["-"]:
         return ()
-    if len(words) == 2:
-        raise ParseError(0, 2)
+    if len(words) <= start:
+        raise ParseError(0, len(words))
     found = []
     latest = -1
-    for at in range(2, len(words)):
+    for at in range(start, len(words)):
         place = entry_place(words[at])
         # A word that is no entry has the place -1, which is never behind the latest one.
         if place <= latest:
@@ -43,17 +44,19 @@ def read_entries(words):
     return tuple(found)
 
 
+def read_table_words(words, start):
+    """Return the entries, the fresh and the roots that the words of the first line write, from this one on."""
+    if not is_color(words[start]):
+        raise ParseError(0, start)
+    if len(words) == start + 1 or words[start + 1] not in ("once:", "again:"):
+        raise ParseError(0, start + 1)
+    entries = read_entries(words, start + 2)
+    return entries, words[start], words[start + 1][:-1]
+
+
 def read_table(text):
     """Return the entries, the fresh and the roots of the table that the text, any value, writes."""
-    if not isinstance(text, str):
-        raise ParseError(0, 0)
-    lines = text.split("\n")
-    words = lines[0].split(" ")
-    if not is_color(words[0]):
-        raise ParseError(0, 0)
-    if len(words) < 2 or words[1] not in ("once:", "again:"):
-        raise ParseError(0, 1)
-    entries = read_entries(words)
-    if len(lines) > 1:
-        raise ParseError(1, 0)
-    return entries, words[0], words[1][:-1]
+    lines = lines_of(text)
+    told = read_table_words(lines[0].split(" "), 0)
+    check_one_line(lines)
+    return told

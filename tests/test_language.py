@@ -25,7 +25,7 @@ LIBRARY = {
 METHODS = set(
     "append clear copy count endswith extend find get index insert isalnum isalpha isdigit islower isspace isupper items"
     " join keys ljust lower lstrip partition pop remove replace reverse rfind rjust rpartition rsplit rstrip setdefault"
-    " split splitlines startswith strip update upper values zfill bit_length add discard".split()
+    " split splitlines startswith strip update upper values zfill bit_length add discard isascii".split()
 )
 DUNDERS = set(
     "__init__ __eq__ __repr__ __str__ __len__ __enter__ __exit__ __call__ __iter__ __lt__ __le__ __gt__ __ge__ __ne__"
@@ -82,6 +82,13 @@ INTERFACE = {
     "repairs": "repairs cheapest",
     "counts": "count_tables minimal_tables",
     "scheduling": "schedule",
+    "collecting": "collect floating survivors",
+    "formatting": "table_text heap_text registers_text step_text run_text change_text",
+    "parsing": "parse_table parse_heap parse_step parse_run parse_change",
+    "desk": "Desk",
+    "threadsteps": "is_thread_step thread_step_rank is_thread_state",
+    "threadcycles": "ThreadCycle",
+    "threadinvariants": "THREAD_INVARIANTS thread_holds thread_offender first_thread_broken",
 }
 # The parameters as the document prints them.
 PARAMETERS = {
@@ -115,6 +122,29 @@ PARAMETERS = {
         "(goal, *, include=(), exclude=(), fresh=None, roots=None, registers=2, scanning='whole')",
     "counts.minimal_tables": "(goal, *, fresh=None, roots=None, registers=2, scanning='whole')",
     "scheduling.schedule": "(cycle, *program, pace=1)",
+    "collecting.collect": "(cycle, *program, pace=1)",
+    "collecting.floating": "(cycle)",
+    "collecting.survivors": "(cycle)",
+    "formatting.table_text": "(table)",
+    "formatting.heap_text": "(heap)",
+    "formatting.registers_text": "(registers)",
+    "formatting.step_text": "(step)",
+    "formatting.run_text": "(run)",
+    "formatting.change_text": "(change)",
+    "parsing.parse_table": "(text)",
+    "parsing.parse_heap": "(text)",
+    "parsing.parse_step": "(text, *, scanning='whole')",
+    "parsing.parse_run": "(text, *, scanning='whole')",
+    "parsing.parse_change": "(text)",
+    "desk.Desk": "(*, scanning='whole')",
+    "threadsteps.is_thread_step": "(thing, *, scanning='whole')",
+    "threadsteps.thread_step_rank": "(step)",
+    "threadsteps.is_thread_state": "(thing, *, scanning='whole')",
+    "threadcycles.ThreadCycle": "(heap, threads, *, early=None, late=None, scanning='whole')",
+    "threadcycles.ThreadCycle.at": "(state, early, late, *, scanning='whole')",
+    "threadinvariants.thread_holds": "(cycle, name)",
+    "threadinvariants.thread_offender": "(cycle, name)",
+    "threadinvariants.first_thread_broken": "(early, late, run, name, *, scanning='whole')",
 }
 MEMBERS = {
     ("tables", "Table"): "FRESH ROOTS __init__ empty full read entries fresh roots changed within __call__ __or__ __and__"
@@ -125,6 +155,10 @@ MEMBERS = {
     ("fieldcycles", "FieldCycle"): "SCANNING __init__",
     ("countingcycles", "CountingCycle"): "__init__ fired",
     ("countingcycles", "CountingFieldCycle"): "__init__ fired",
+    ("desk", "Desk"): "__init__ execute",
+    ("threadcycles", "ThreadCycle"): "MOST_THREADS MOST_REGISTERS MOST_OBJECTS __init__ at heap threads colors visited looked state"
+                                     " early late scanning phase steps scans old begun reachable lost freed step why moves undo"
+                                     " twin tried __contains__ __len__ __eq__ __repr__",
 }
 
 
@@ -214,9 +248,11 @@ class Interface(unittest.TestCase):
 
     def test_parameters(self):
         for name, parameters in PARAMETERS.items():
-            stem, function = name.split(".")
-            module = importlib.import_module(f"shadeguards.{stem}")
-            self.assertEqual(str(inspect.signature(getattr(module, function))), parameters, name)
+            stem, *parts = name.split(".")
+            found = importlib.import_module(f"shadeguards.{stem}")
+            for part in parts:
+                found = getattr(found, part)
+            self.assertEqual(str(inspect.signature(found)), parameters, name)
 
     def test_methods_stand_in_their_classes(self):
         for (stem, name), members in MEMBERS.items():
@@ -395,11 +431,17 @@ class Expressions(unittest.TestCase):
 
     def test_no_generator_of_the_package_is_a_value(self):
         generators = {node.name for _, node in walk_all() if isinstance(node, ast.FunctionDef) and is_generator(node)}
-        at_once = {id(node.iter.func) for _, node in walk_all()
-                   if isinstance(node, (ast.For, ast.comprehension)) and isinstance(node.iter, ast.Call)}
-        for path, node in walk_all():
-            if isinstance(node, ast.Name) and node.id in generators:
-                self.assertIn(id(node), at_once, f"{path}:{node.lineno}")
+        for path, tree in trees().items():
+            at_once = set()
+            for node in ast.walk(tree):
+                if isinstance(node, (ast.For, ast.comprehension)):
+                    at_once.add(id(getattr(node.iter, "func", None)))
+                elif isinstance(node, ast.Call) and isinstance(node.func, ast.Name) and node.args:
+                    if node.func.id in {"list", "tuple", "dict", "sorted", "sum", "any", "all", "enumerate", "zip"}:
+                        at_once.add(id(getattr(node.args[0], "func", None)))
+            for node in ast.walk(tree):
+                if isinstance(node, ast.Name) and node.id in generators:
+                    self.assertIn(id(node), at_once, f"{path}:{node.lineno}")
 
     def test_constants(self):
         for path, tree in trees().items():
