@@ -84,32 +84,35 @@ def repairs(table, *goals, registers=2, scanning="whole"):
         yield changes
 
 
-def is_price(thing):
-    """Return True if the thing, any value, is a pair of a change and its price."""
-    if not isinstance(thing, tuple) or len(thing) != 2 or not is_change(thing[0]):
+def is_price(thing, is_right):
+    """Return True if the thing, any value, is a pair of a change, for which is_right returns True, and its price."""
+    if not isinstance(thing, tuple) or len(thing) != 2 or not is_right(thing[0]):
         return False
     return is_number(thing[1]) and 0 <= thing[1] <= PRICE_AT_MOST
 
 
-def price_list(prices):
-    """Return the dict of the prices, any value, of changes; the last price of a change counts."""
+def price_list(prices, is_right):
+    """Return the dict of the prices, any value, of changes for which is_right returns True; the last price counts."""
     if not isinstance(prices, tuple):
         raise InvalidChange(-1)
     told = {}
     for index, item in enumerate(prices):
-        if not is_price(item):
+        if not is_price(item, is_right):
             raise InvalidChange(index)
         change, price = item
         told[change] = price
     return told
 
 
+def cheapest_of(found, told):
+    """Return the least price of the repairs found, and the first of them that has it; the dict tells the prices."""
+    offers = [(sum([told.get(change, 1) for change in changes]), changes) for changes in found]
+    lowest = min([price for price, _ in offers])
+    return [offer for offer in offers if offer[0] == lowest][0]
+
+
 def cheapest(table, *goals, prices=(), registers=2, scanning="whole"):
     """Return the least price of a repair of the table for the goals, any values, and the first repair of this price."""
     check_goals(goals)
-    told = price_list(prices)
-    offers = []
-    for changes in least_repairs(table, goals, registers, scanning):
-        offers.append((sum([told.get(change, 1) for change in changes]), changes))
-    lowest = min([price for price, _ in offers])
-    return [offer for offer in offers if offer[0] == lowest][0]
+    told = price_list(prices, is_change)
+    return cheapest_of(least_repairs(table, goals, registers, scanning), told)

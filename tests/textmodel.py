@@ -50,9 +50,8 @@ def registers_word(many):
 
 def threads_word(many):
     def right(words, at):
-        parts = " ".join(words[:at]).split(" | ")
         if at == len(words):
-            return len(parts) > 1 and words[-1] != "|"
+            return "|" in words and words[-1] != "|"
         behind = 0
         while behind < at and words[at - behind - 1] != "|":
             behind += 1

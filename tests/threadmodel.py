@@ -1,6 +1,7 @@
 """A second machine with threads, written from points 76 to 79 in another way, and values for tests of threads."""
 
-from shadeguards.entries import COLORS
+from shadeguards.entries import COLORS, ENTRIES
+from shadeguards.errors import Mismatch
 from shadeguards.tables import Table
 from shadeguards.threadcycles import ThreadCycle
 from tests.model import Model, lost_objects
@@ -154,8 +155,49 @@ def some_thread_cycle(chance, scanning, most=4, width=None):
     return ThreadCycle(heap, some_threads(chance, heap), early=early, late=late, scanning=scanning)
 
 
-def unlike_pairs(scanning, chance, many):
-    """Pairs of tables of chance, in which the entries of point 79 are there or not with the same chance."""
-    for _ in range(many):
-        early = some_table(chance)
-        yield early, Table(*some_table(chance).entries, fresh=chance.choice(COLORS), roots=early.roots)
+def is_guarded(entries, scanning):
+    """Whether a set of entries is guarded, in the words of point 79."""
+    black = bool(entries & {("new", "black"), ("source", "black")})
+    return black and (scanning == "whole" or bool(entries & {("new", "grey"), ("source", "grey")}))
+
+
+def is_covered(early, late, fresh):
+    """Whether a pair of sets of entries is covered, with this fresh of the late one."""
+    grey, white = ("old", "grey"), ("old", "white")
+    held = ("load", "white") in late and grey in late and grey in early
+    paths = {grey, white} <= early and {grey, white} <= late
+    return fresh != "white" and (("load", "grey") in late or held or paths)
+
+
+def safe_sets(early, late, fresh, roots, scanning):
+    """Whether a pair of sets of entries is safe, by the fact of point 79."""
+    if not is_guarded(early, scanning):
+        return False
+    return is_covered(early, late, fresh) or roots == "again" and is_guarded(late, scanning)
+
+
+def safe_pair(early, late, scanning):
+    """Whether a pair of tables is safe, by the fact of point 79."""
+    return safe_sets(set(early.entries), set(late.entries), late.fresh, late.roots, scanning)
+
+
+NAMED_EARLY = [("old", "white"), ("old", "grey"), ("new", "grey"), ("new", "black"), ("source", "grey"), ("source", "black")]
+NAMED_LATE = [("load", "white"), ("load", "grey")] + NAMED_EARLY
+
+
+def likely_pair(chance):
+    """Two tables of chance with the same roots, each with few, some or most entries."""
+    pair, roots = [], chance.choice(("once", "again"))
+    for _ in range(2):
+        likely = chance.choice((0.1, 0.3, 0.5, 0.7, 0.9))
+        entries = [entry for entry in ENTRIES if chance.random() < likely]
+        pair.append(Table(*entries, fresh=chance.choice(COLORS), roots=roots))
+    return tuple(pair)
+
+
+def check_mismatch(case, deed):
+    """The deed, called with two tables, must raise Mismatch if their roots are not the same."""
+    again = Table(roots="again")
+    for early, late in [(Table(), again), (again, Table()), (Table.full(), Table.full(roots="again"))]:
+        with case.assertRaises(Mismatch):
+            deed(early, late)
