@@ -6,15 +6,24 @@ def placed(items, index, item):
     return items[:index] + (item,) + items[index + 1:]
 
 
-def shaded(colors, objects):
+def shaded(colors, x):
+    """Return the colors after the object x is shaded; None is no object."""
+    if x is None or colors[x] != "white":
+        return colors
+    return placed(colors, x, "grey")
+
+
+def all_shaded(colors, objects):
     """Return the colors after these objects, or None in their places, are shaded."""
-    return tuple(["grey" if color == "white" and x in objects else color for x, color in enumerate(colors)])
+    for x in objects:
+        colors = shaded(colors, x)
+    return colors
 
 
 def after_look(step, state, table):
     """Return the state after a start or a look."""
     heap, registers, colors, visited = state
-    return (heap, registers, shaded(colors, registers), visited)
+    return (heap, registers, all_shaded(colors, registers), visited)
 
 
 def after_load(step, state, table):
@@ -24,7 +33,7 @@ def after_load(step, state, table):
     source = registers[s]
     loaded = heap[1][source][f]
     if table("load", colors[source]):
-        colors = shaded(colors, (loaded,))
+        colors = shaded(colors, loaded)
     return (heap, placed(registers, r, loaded), colors, visited)
 
 
@@ -39,9 +48,9 @@ def after_store(step, state, table):
     # The color before the step decides all three shadings, also where the first one shades the source.
     parts = table("store", colors[source])
     if "old" in parts:
-        colors = shaded(colors, (held,))
+        colors = shaded(colors, held)
     if "new" in parts:
-        colors = shaded(colors, (stored,))
+        colors = shaded(colors, stored)
     if "source" in parts:
         colors = placed(colors, source, "grey")
         visited = placed(visited, source, ())
@@ -77,7 +86,7 @@ def after_scan(step, state, table):
     width, objects = heap
     x = step[1]
     fields = tuple(range(width)) if len(step) == 2 else step[2:]
-    colors = shaded(colors, [objects[x][f] for f in fields])
+    colors = all_shaded(colors, [objects[x][f] for f in fields])
     seen = tuple(sorted(visited[x] + fields))
     if len(seen) == width:
         colors = placed(colors, x, "black")

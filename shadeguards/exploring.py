@@ -2,7 +2,7 @@
 
 from shadeguards.effects import state_after
 from shadeguards.errors import InvalidGoal
-from shadeguards.possible import possible_steps
+from shadeguards.possible import first_holders, program_moves, scan_moves
 from shadeguards.reaching import reachable
 from shadeguards.refusals import end_refusal
 
@@ -22,9 +22,17 @@ def started_state(table, heap, registers):
 
 
 def next_states(state, table, scanning, most):
-    """Return the pairs of each step but the end and the state after it; no object is made where there are so many."""
-    barred = ("end",) if len(state[2]) < most else ("end", "new")
-    steps = [step for step in possible_steps(state, "marking", table, scanning) if step[0] not in barred]
+    """Return pairs of steps, in order, and the states after them; no object is made where there are so many.
+
+    Each state to which a step other than the end leads is there, with the least of these steps and perhaps with others.
+    """
+    heap, registers, colors, visited = state
+    # A step that reads another register with the same object leads to the same state, and it comes later.
+    steps = program_moves(heap, registers, first_holders(registers)) + scan_moves(heap, colors, visited, scanning)
+    if len(colors) >= most:
+        steps = [step for step in steps if step[0] != "new"]
+    if table.roots == "again":
+        steps.append(("look",))
     return [(step, state_after(step, state, table)) for step in steps]
 
 

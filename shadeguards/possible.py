@@ -9,6 +9,15 @@ def holders(registers):
     return [r for r, held in enumerate(registers) if held is not None]
 
 
+def first_holders(registers):
+    """Return for each object that registers hold the first register that holds it."""
+    firsts = {}
+    for r, held in enumerate(registers):
+        if held is not None and held not in firsts:
+            firsts[held] = r
+    return list(firsts.values())
+
+
 def program_moves(heap, registers, sources):
     """Return the possible steps of the program that read no registers but these, each of which holds an object."""
     width, objects = heap

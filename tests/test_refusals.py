@@ -5,6 +5,7 @@ import unittest
 from shadeguards.cycles import Cycle
 from shadeguards.errors import InvalidStep
 from shadeguards.fieldcycles import FieldCycle
+from shadeguards.scheduling import schedule
 from shadeguards.steps import is_step, step_rank
 from shadeguards.tables import Table
 from tests.model import Model, all_steps
@@ -205,6 +206,20 @@ class AllSteps(unittest.TestCase):
             self.compare(cycle)
             for _ in wander(chance, cycle, 25):
                 self.compare(cycle)
+
+    def test_all_phases(self):
+        heap = (2, ((1, None), (None, 2), (0, 2)))
+        for scanning, made in CLASSES.items():
+            for table in (Table(), Table.full(fresh="white", roots="again"), Table(("load", "grey"), ("old", "white"), fresh="grey")):
+                for registers in [(0,), (0, None), (0, 0, 1), (None,), (1, 1, None, 0, 1, 0)]:
+                    cycle = made(heap, *registers, table=table)
+                    seen = [cycle.phase]
+                    self.compare(cycle)
+                    for step in list(schedule(cycle, ("move", 0, 1), ("new", 0))) if len(registers) > 2 else list(schedule(cycle)):
+                        cycle.step(step)
+                        self.compare(cycle)
+                        seen.append(cycle.phase)
+                    self.assertEqual((cycle.SCANNING, sorted(set(seen))), (scanning, ["ended", "marking", "ready"]))
 
     def test_forty_objects_and_six_registers(self):
         for made in CLASSES.values():

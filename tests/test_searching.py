@@ -1,7 +1,10 @@
 """Points 48 and 50: the search of one heap."""
 
 import unittest
+from unittest import mock
 
+from shadeguards import exploring
+from shadeguards.closedchecks import check_closed
 from shadeguards.errors import TooMany
 from shadeguards.searching import search
 from shadeguards.steps import step_rank
@@ -189,3 +192,51 @@ class Order(unittest.TestCase):
             paths = met_states(table, heap, (0, 1), scanning, 1, 30)
             ranks = [[step_rank(step) for step in steps] for steps in paths.values()]
             self.assertEqual(ranks, sorted(ranks, key=lambda rank: (len(rank), rank)))
+
+
+class Large(unittest.TestCase):
+    """Searches of small heaps with many steps from each state."""
+
+    TABLE = Table(("new", "grey"))
+    SIX = ((1, ((None,),)), (0, None, None, None, None, None))
+    TWO = ((1, ((0,), (None,))), (0, 1))
+
+    def check(self, table, heap, registers, **words):
+        words = {"goal": "safe", "scanning": "fields", "extra": 0, "limit": 500, **words}
+        expected = expected_search(table, heap, registers, **words)
+        self.assertEqual(search(table, heap, registers, **words), expected)
+        return expected
+
+    def test_closed_ones(self):
+        for (heap, registers), many in [(self.SIX, 256), (self.TWO, 324)]:
+            word, states = self.check(self.TABLE, heap, registers)
+            self.assertEqual((word, len(states)), ("closed", many))
+            self.assertIs(check_closed(self.TABLE, heap, registers, states, scanning="fields"), True)
+            # With one state less a step leads out of them.
+            for at in range(1, many, 40):
+                with self.assertRaises(ValueError) as caught:
+                    check_closed(self.TABLE, heap, registers, states[:at] + states[at + 1:], scanning="fields")
+                self.assertEqual(caught.exception.reason, "step")
+            with self.assertRaises(TooMany):
+                search(self.TABLE, heap, registers, scanning="fields", limit=many - 1)
+
+    def test_the_goal_snapshot(self):
+        for table in (self.TABLE, Table(("load", "grey"), ("old", "grey"))):
+            for heap, registers in (self.SIX, self.TWO):
+                self.assertEqual(self.check(table, heap, registers, goal="snapshot")[0], "closed")
+        self.assertEqual(self.check(self.TABLE, (1, ((1,), (None,))), (0, None, 0), goal="snapshot"),
+                         ("found", (("start",), ("store", 0, 0, None), ("scan", 0, 0), ("end",))))
+
+    def test_one_more_object(self):
+        word, states = self.check(self.TABLE, (1, ((None,),)), (0,), extra=1)
+        self.assertEqual((word, {len(state[2]) for state in states}), ("closed", {1, 2}))
+        self.assertEqual(self.check(Table(fresh="white"), (1, ((None,),)), (0, None, 0), extra=1)[0], "found")
+        with self.assertRaises(TooMany):
+            search(self.TABLE, *self.SIX, scanning="fields", extra=1)
+
+    def test_few_states_are_made(self):
+        # Steps that read another register with the same object are not performed once more.
+        for (heap, registers), most in [(self.SIX, 20), (self.TWO, 10)]:
+            with mock.patch.object(exploring, "state_after", wraps=exploring.state_after) as made:
+                _, states = search(self.TABLE, heap, registers, scanning="fields")
+            self.assertLessEqual(made.call_count, most * len(states))
