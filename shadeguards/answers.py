@@ -1,4 +1,4 @@
-"""What a desk answers to the commands that leave it its cycle, which some of them change."""
+"""What a desk answers to all commands but the one that begins a new cycle."""
 
 from shadeguards.collecting import collect
 from shadeguards.counts import count_tables

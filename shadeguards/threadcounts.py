@@ -1,11 +1,11 @@
 """How many pairs of tables are safe for threads, and which of them have no entry too many."""
 
+from shadeguards.changes import ROOT_WORDS
 from shadeguards.counts import choices, count_free
 from shadeguards.entries import COLORS, ENTRIES
 from shadeguards.pairs import COVERS, has_all, is_guarded, is_safe, pair_ways
 from shadeguards.tables import Table
 
-ROOT_WORDS = ("once", "again")
 # The entries on which it depends whether a pair is safe.
 NAMED_EARLY = (
     ("old", "white"), ("old", "grey"), ("new", "grey"), ("new", "black"), ("source", "grey"), ("source", "black"),
@@ -25,9 +25,10 @@ def subsets(entries):
 
 
 def groups_of(named, wanted, barred, parts, scanning):
-    """Return pairs of named entries and of a number of sets of entries: all sets with these wanted and barred entries.
+    """Return groups of the sets of entries that have all the wanted entries and none of the barred ones.
 
-    The sets of a group are guarded or not, and have each of the parts or not, as these named entries do.
+    A group is a pair of some named entries and the number of its sets. Its sets are guarded or not, and have each of
+    the parts or not, as these named entries do.
     """
     groups = {}
     for chosen in subsets(named):

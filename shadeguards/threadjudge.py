@@ -1,5 +1,6 @@
 """Verdicts over pairs of tables: whether they are safe for threads, with a name or a run that shows it."""
 
+from shadeguards.changes import ROOT_WORDS
 from shadeguards.errors import InvalidCertificate, InvalidRoots
 from shadeguards.judging import is_verdict
 from shadeguards.pairs import check_same_roots, is_safe_with, pair_fits, pair_ways
@@ -8,7 +9,7 @@ from shadeguards.threadruns import losing_threads, play_threads
 
 def thread_ways(roots, *, scanning="whole"):
     """Return the ways in which a pair with these roots, any value, is safe."""
-    if not isinstance(roots, str) or roots not in ("once", "again"):
+    if not isinstance(roots, str) or roots not in ROOT_WORDS:
         raise InvalidRoots(roots)
     return pair_ways(roots, scanning)
 

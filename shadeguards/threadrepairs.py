@@ -1,13 +1,12 @@
 """Changes of pairs of tables, least sets of them that make a pair safe for threads, and the cheapest one."""
 
-from shadeguards.changes import alters, change_rank, changed_once, is_change
+from shadeguards.changes import ROOT_WORDS, alters, change_rank, changed_once, is_change
 from shadeguards.entries import COLORS
 from shadeguards.errors import InvalidChange
 from shadeguards.pairs import check_same_roots, pair_ways
 from shadeguards.repairs import cheapest_of, is_least, price_list, repairs_for
 
 PLACES = ("early", "late", "both")
-ROOT_WORDS = ("once", "again")
 
 
 def is_pair_change(thing):
